@@ -1,0 +1,1 @@
+"""Facehouse: services from the text of a face to the last letter."""
