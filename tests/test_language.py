@@ -1,4 +1,4 @@
-"""Those rules of ../shared/LANGUAGE.md that a look at the files alone can hold the package to."""
+"""Some rules of ../shared/LANGUAGE.md, by no means all: sizes, signs, words, imports and names."""
 
 import ast
 import builtins
