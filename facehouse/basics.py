@@ -4,6 +4,8 @@ LETTERS = "abcdefghijklmnopqrstuvwxyz"
 FIGURES = "0123456789"
 LONGEST_NAME = 8
 LONGEST_NUMBER = 30
+# The greatest number of an option, a field or a call.
+GREATEST_NUMBER = 30
 
 
 def is_whole(thing):

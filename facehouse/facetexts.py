@@ -1,11 +1,10 @@
 """Faces as texts: written line by line, and read only where they are written just so (6)."""
 
-from facehouse.basics import are_unlike, is_name, is_number_text, is_rising
+from facehouse.basics import GREATEST_NUMBER, are_unlike, is_name, is_number_text, is_rising
 from facehouse.errors import NoFace
 from facehouse.faces import Face
 
 GREATEST_EDITION = 99
-GREATEST_NUMBER = 30
 MOST_CHOICES = 4
 MOST_OPTIONS = 6
 MOST_RECORDS = 6

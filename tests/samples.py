@@ -1,6 +1,7 @@
 """Faces, their texts, and any things, for the tests."""
 
 from facehouse.faces import Face
+from facehouse.facetexts import read_face
 
 BANK_TEXT = """\
 face bank 2
@@ -95,3 +96,8 @@ def any_things():
         nested(100),
         bank(),
     ]
+
+
+def face_of(*rows, name="a"):
+    """The face NAME 1 with these lines below its first one."""
+    return read_face("\n".join((f"face {name} 1",) + rows))

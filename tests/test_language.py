@@ -1,4 +1,4 @@
-"""Some rules of ../shared/LANGUAGE.md, by no means all: sizes, signs, words, imports and names."""
+"""Some rules of ../shared/LANGUAGE.md, by no means all: sizes, signs, words, imports, names, methods."""
 
 import ast
 import builtins
@@ -20,6 +20,11 @@ BUILTINS = (
     " isinstance ord repr any all divmod iter next super property staticmethod classmethod NotImplemented Exception"
     " ValueError TypeError KeyError IndexError LookupError ZeroDivisionError ArithmeticError OverflowError"
     " RuntimeError NotImplementedError AttributeError StopIteration"
+).split()
+METHODS = (
+    "append clear copy count endswith extend find get index insert isalnum isalpha isdigit islower isspace isupper"
+    " items join keys ljust lower lstrip partition pop remove replace reverse rfind rjust rpartition rsplit rstrip"
+    " setdefault split splitlines startswith strip update upper values zfill bit_length"
 ).split()
 FUNCTIONS = (ast.FunctionDef, ast.AsyncFunctionDef)
 NOT_ALLOWED = (
@@ -95,6 +100,63 @@ class LanguageTest(unittest.TestCase):
             for name in bound_names(tree):
                 if not (name.startswith("__") and name.endswith("__")):
                     self.assertRegex(name, r"\A[A-Za-z][A-Za-z0-9_]*\Z", file)
+
+    def test_no_local_name_is_a_builtins_a_classes_or_an_imports(self):
+        # L15, and that what is imported is used.
+        for file, _, tree in parsed():
+            taken = {alias.name for node in tree.body if isinstance(node, ast.ImportFrom) for alias in node.names}
+            used = {node.id for node in ast.walk(tree) if isinstance(node, ast.Name) and isinstance(node.ctx, ast.Load)}
+            self.assertEqual(taken - used, set(), file)
+            taken |= {node.name for node in tree.body if isinstance(node, ast.ClassDef)} | set(dir(builtins))
+            for node in ast.walk(tree):
+                if isinstance(node, ast.Name) and isinstance(node.ctx, ast.Store):
+                    self.assertNotIn(node.id, taken, (file, node.lineno))
+                elif isinstance(node, ast.arg):
+                    self.assertNotIn(node.arg, taken, (file, node.lineno))
+
+    def test_imports_name_the_file_that_defines_the_name_and_run_in_no_ring(self):
+        trees = {file.removesuffix(".py"): tree for file, _, tree in parsed()}
+        below = {}
+        for file, tree in trees.items():
+            imports = [node for node in tree.body if isinstance(node, ast.ImportFrom)]
+            below[file] = {node.module.removeprefix("facehouse.") for node in imports}
+            for node in imports:
+                defined = set()
+                for part in trees[node.module.removeprefix("facehouse.")].body:
+                    if isinstance(part, FUNCTIONS + (ast.ClassDef,)):
+                        defined.add(part.name)
+                    elif isinstance(part, ast.Assign):
+                        defined.update([target.id for target in part.targets])
+                self.assertLessEqual({alias.name for alias in node.names}, defined, file)
+        while below:
+            free = [file for file in below if not below[file] & set(below)]
+            self.assertNotEqual(free, [], below)
+            for file in free:
+                del below[file]
+
+    def test_is_stands_beside_none_and_truths_alone(self):
+        for file, _, tree in parsed():
+            for node in ast.walk(tree):
+                if isinstance(node, ast.Compare):
+                    for op, right in zip(node.ops, node.comparators):
+                        if isinstance(op, (ast.Is, ast.IsNot)):
+                            self.assertIsInstance(right, ast.Constant, (file, node.lineno))
+                            self.assertIn(right.value, (None, True, False), (file, node.lineno))
+
+    def test_methods(self):
+        # L25, and the package's own.
+        own = {node.name for _, _, tree in parsed() for node in ast.walk(tree) if isinstance(node, FUNCTIONS)}
+        for file, _, tree in parsed():
+            for node in ast.walk(tree):
+                if isinstance(node, ast.Call) and isinstance(node.func, ast.Attribute):
+                    self.assertIn(node.func.attr, METHODS + sorted(own), (file, node.lineno))
+
+    def test_comprehensions_stand_in_functions(self):
+        loops = (ast.ListComp, ast.DictComp, ast.SetComp, ast.GeneratorExp)
+        for file, _, tree in parsed():
+            for part in tree.body:
+                if isinstance(part, ast.Assign):
+                    self.assertEqual([node for node in ast.walk(part) if isinstance(node, loops)], [], file)
 
     def test_any_and_its_kin_take_lists(self):
         # L7: because Face has __eq__.
