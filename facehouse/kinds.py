@@ -1,7 +1,8 @@
-"""Kinds: how they are marked, whom they name, and which numbers their values are told by (4, 10)."""
+"""Kinds: how they are marked, whom they name, which are plain, and which numbers tell their values (4, 10, 14)."""
 
 MARKS = {"whole": 1, "truth": 1, "choice": 1, "text": 2, "list": 3, "record": 4}
 GREATEST_MARK = 4
+PLAIN_KINDS = ("whole", "truth", "text", ("list", "whole"), ("list", "truth"), ("list", "text"))
 
 
 def word_of(kind):
@@ -12,6 +13,11 @@ def word_of(kind):
 def mark_of(kind):
     """The mark of a kind."""
     return MARKS[word_of(kind)]
+
+
+def is_plain(kind):
+    """Whether a kind is whole, truth, text or a list of these."""
+    return kind in PLAIN_KINDS
 
 
 def name_in(kind):

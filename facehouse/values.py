@@ -1,4 +1,4 @@
-"""Values: whether any thing is one of a face's record, and the least one (9)."""
+"""Values: whether any thing is one of a face's record, the least one, and like ones (9)."""
 
 from facehouse.basics import is_whole
 from facehouse.kinds import names_nobody, number_of, word_of
@@ -140,3 +140,12 @@ def least_size(face, kind, sizes):
     if word == "list":
         return 1
     return len(digits_of(number_of(face, kind, least_of(face, kind)))) if word == "choice" else 0
+
+
+def copied(value):
+    """A value like another one that shares no dict with it."""
+    if isinstance(value, dict):
+        return {name: copied(value[name]) for name in value}
+    if isinstance(value, tuple):
+        return tuple([copied(part) for part in value])
+    return value

@@ -9,7 +9,7 @@ from facehouse.kin import reads, unread
 from facehouse.rights import wrong
 from facehouse.values import is_value
 from facehouse.wire import read, written
-from tests.reference import Refused, body_of, dice_of, some_value, value_of
+from tests.reference import Refused, body_of, dice_of, pairs_that_read, some_value, value_of
 from tests.samples import face_of
 
 CHOICES = (
@@ -288,44 +288,6 @@ def near(face, dice, name):
         found = face_of(*changed, name=name)
         if not wrong(found):
             return found
-
-
-def pairs_that_read(reader, writer):
-    """All pairs of records that read: those that are left where what doesn't is struck out again and again."""
-    records, others = dict(reader.records), dict(writer.records)
-    left = set(itertools.product(records, others))
-    while True:
-        kept = {pair for pair in left if fields_read(reader, records[pair[0]], writer, others[pair[1]], left)}
-        if kept == left:
-            return left
-        left = kept
-
-
-def fields_read(reader, fields, writer, others, left):
-    theirs = {number: (kind, need) for number, _, kind, need in others}
-    for number, _, kind, need in fields:
-        if need == "must" and theirs.get(number, (None, "may"))[1] != "must":
-            return False
-        if number in theirs and not kind_reads(reader, kind, writer, theirs[number][0], left):
-            return False
-    return True
-
-
-def kind_reads(reader, kind, writer, other, left):
-    word, other_word = [one if isinstance(one, str) else one[0] for one in (kind, other)]
-    if word in ("text", "list", "record") or other_word in ("text", "list", "record"):
-        if word != other_word:
-            return False
-        if word == "list":
-            return kind_reads(reader, kind[1], writer, other[1], left)
-        return word == "text" or (kind[1], other[1]) in left
-    return word == "whole" or numbers_of(writer, other) <= numbers_of(reader, kind)
-
-
-def numbers_of(face, kind):
-    if kind == "whole":
-        return {0, 1, 99}
-    return {0, 1} if kind == "truth" else {number for number, _ in dict(face.choices)[kind[1]]}
 
 
 class ManyTest(KinTest):

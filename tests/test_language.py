@@ -167,5 +167,109 @@ class LanguageTest(unittest.TestCase):
                         self.assertNotIsInstance(node.args[0], ast.GeneratorExp, (file, node.lineno))
 
 
+    def test_module_level(self):
+        # L3 and L15: a docstring, imports, functions, classes, and names bound once to plain values.
+        allowed = (ast.ImportFrom, ast.ClassDef, ast.FunctionDef, ast.Assign)
+        plain = (ast.Constant, ast.Tuple, ast.List, ast.Dict, ast.BinOp, ast.Pow, ast.Load, ast.Name, ast.Store)
+        for file, _, tree in parsed():
+            self.assertIsNotNone(ast.get_docstring(tree), file)
+            bound = []
+            for part in tree.body[1:]:
+                self.assertIsInstance(part, allowed, (file, part.lineno))
+                if isinstance(part, ast.Assign):
+                    for node in ast.walk(part.value):
+                        self.assertIsInstance(node, plain, (file, part.lineno))
+                    bound += [target.id for target in part.targets]
+                elif isinstance(part, ast.ImportFrom):
+                    bound += [alias.name for alias in part.names]
+                else:
+                    bound.append(part.name)
+            self.assertEqual(len(bound), len(set(bound)), file)
+
+    def test_no_name_is_a_method_and_an_attribute(self):
+        # L18, and that each attribute that is read is assigned by a class.
+        methods, assigned, read = set(), set(), set()
+        for _, _, tree in parsed():
+            for part in [node for node in ast.walk(tree) if isinstance(node, ast.ClassDef)]:
+                methods |= {node.name for node in part.body if isinstance(node, FUNCTIONS)}
+                assigned |= {node.attr for node in ast.walk(part) if isinstance(node, ast.Attribute) and isinstance(node.ctx, ast.Store)}
+            called = {id(node.func) for node in ast.walk(tree) if isinstance(node, ast.Call)}
+            read |= {node.attr for node in ast.walk(tree) if isinstance(node, ast.Attribute) and id(node) not in called}
+        self.assertEqual(methods & assigned, set())
+        self.assertEqual(read - assigned, set())
+
+    def test_names_that_are_not_used(self):
+        # L17, first and second list, and L26.
+        barred = (
+            "register mro elements open input version_info with_traceback add_note attrgetter breakpoint builtins compile"
+            " copyright credits delattr dir eval exec exit gc getattr globals hasattr help id importlib license locals"
+            " methodcaller os quit setattr type vars sys"
+        ).split()
+        for file, _, tree in parsed():
+            for name in bound_names(tree):
+                self.assertNotIn(name, barred, file)
+            for node in ast.walk(tree):
+                if isinstance(node, ast.Attribute) and isinstance(node.ctx, ast.Store):
+                    self.assertFalse(hasattr(str, node.attr) or hasattr(dict, node.attr) or hasattr(list, node.attr), node.attr)
+                    self.assertFalse(hasattr(int, node.attr) or hasattr(bytes, node.attr), node.attr)
+
+    def test_what_is_iterated_at_once(self):
+        # L23 and L24: the call stands behind in, or in a call of one of these.
+        takers = {"list", "tuple", "dict", "sorted", "sum", "any", "all", "enumerate", "zip", "min", "max", "len"}
+        for file, _, tree in parsed():
+            allowed = set()
+            for node in ast.walk(tree):
+                if isinstance(node, (ast.For, ast.comprehension)):
+                    allowed.add(id(node.iter))
+                elif isinstance(node, ast.Call) and isinstance(node.func, ast.Name) and node.func.id in takers:
+                    allowed |= {id(part) for part in node.args}
+                elif isinstance(node, ast.Call) and isinstance(node.func, ast.Attribute) and node.func.attr == "join":
+                    allowed |= {id(part) for part in node.args}
+                elif isinstance(node, ast.Compare):
+                    allowed |= {id(part) for part in node.comparators}
+            for node in ast.walk(tree):
+                if isinstance(node, ast.Call):
+                    lazy = isinstance(node.func, ast.Name) and node.func.id in ("zip", "enumerate", "reversed", "range", "set")
+                    lazy = lazy or (isinstance(node.func, ast.Attribute) and node.func.attr in ("items", "keys", "values"))
+                    self.assertTrue(not lazy or id(node) in allowed, (file, node.lineno))
+                self.assertNotIsInstance(node, (ast.Set, ast.SetComp, ast.GeneratorExp, ast.Lambda, ast.NamedExpr), file)
+
+    def test_errors(self):
+        # L19: only own errors are caught, and what is raised is made on the spot.
+        own = {node.name for node in ast.parse((PACKAGE / "errors.py").read_text()).body if isinstance(node, ast.ClassDef)}
+        for file, _, tree in parsed():
+            for node in ast.walk(tree):
+                if isinstance(node, ast.ExceptHandler):
+                    self.assertIsInstance(node.type, ast.Name, (file, node.lineno))
+                    self.assertIn(node.type.id, own, (file, node.lineno))
+                elif isinstance(node, ast.Raise):
+                    self.assertIsInstance(node.exc, ast.Call, (file, node.lineno))
+                    self.assertIn(node.exc.func.id, own, (file, node.lineno))
+
+    def test_powers_and_keywords_of_builtins(self):
+        # L22, L25 and L27.
+        for file, _, tree in parsed():
+            for node in ast.walk(tree):
+                if isinstance(node, ast.BinOp) and isinstance(node.op, ast.Pow):
+                    self.assertIsInstance(node.right, ast.Constant, (file, node.lineno))
+                if isinstance(node, ast.Call) and isinstance(node.func, ast.Name) and node.func.id in dir(builtins):
+                    for keyword in node.keywords:
+                        self.assertIn((node.func.id, keyword.arg), (("enumerate", "start"),), (file, node.lineno))
+                if isinstance(node, ast.Call) and isinstance(node.func, ast.Attribute) and node.func.attr in METHODS:
+                    self.assertEqual(node.keywords, [], (file, node.lineno))
+
+    def test_what_a_loop_goes_over_is_not_changed_in_it(self):
+        # L23, as far as names and attributes show it.
+        changing = ("append", "clear", "extend", "insert", "pop", "remove", "reverse", "setdefault", "update")
+        for file, _, tree in parsed():
+            for loop in [node for node in ast.walk(tree) if isinstance(node, ast.For)]:
+                over = ast.unparse(loop.iter)
+                for node in [one for part in loop.body for one in ast.walk(part)]:
+                    if isinstance(node, ast.Call) and isinstance(node.func, ast.Attribute) and node.func.attr in changing:
+                        self.assertNotEqual(ast.unparse(node.func.value), over, (file, node.lineno))
+                    if isinstance(node, ast.Subscript) and not isinstance(node.ctx, ast.Load):
+                        self.assertNotEqual(ast.unparse(node.value), over, (file, node.lineno))
+
+
 if __name__ == "__main__":
     unittest.main()
