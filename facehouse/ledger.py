@@ -31,21 +31,17 @@ def fits(book, serves, rows, stores):
 
 
 def is_row(editions, serves, thing):
-    """Whether any thing is a row, but for what its call comes to."""
+    """Whether any thing is a row, but for its tick's bound and what its call comes to."""
     if not isinstance(thing, tuple) or len(thing) != ROW_SIZE:
         return False
     tick, end, face, key, sender, spoken, number, ask, came = thing
-    if not is_whole(tick) or tick < 0:
-        return False
-    if not isinstance(end, str) or end not in serves or not isinstance(face, str) or serves[end] != face:
+    if not isinstance(end, str) or end not in serves or serves[end] != face:
         return False
     if not isinstance(sender, str) or sender not in serves or sender == end:
         return False
-    return is_key_of(key, face, number) and is_spoken(editions, spoken, face)
+    return is_whole(tick) and is_key_of(key, face, number) and is_spoken(editions, spoken, face)
 
 
 def are_stores(held, stores):
     """Whether any thing is a dict of just these stores, without truths for numbers."""
-    if not isinstance(stores, dict) or stores != held:
-        return False
-    return all([is_whole(store[text]) for store in list(stores.values()) for text in store])
+    return stores == held and all([is_whole(store[text]) for store in list(stores.values()) for text in store])

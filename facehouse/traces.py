@@ -16,7 +16,7 @@ TEXT_PLACES = {"take": 1, "add": 1, "tell": 2}
 def trace(house, key):
     """The trace of a key in the ledger; NoKey, of any thing."""
     rows = house.ledger()
-    if not isinstance(key, str) or key not in [row[3] for row in rows]:
+    if key not in [row[3] for row in rows]:
         raise NoKey(key)
     held = {}
     ahead = {}

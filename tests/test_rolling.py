@@ -649,6 +649,44 @@ class KeysTest(RollTest):
         self.assertEqual(made.told("ada1"), ("fault", "poor"))
         self.assertEqual([row[3] for row in made.ledger()], ["ada1.bank1", "ada1.post1", "ada1"])
 
+    def test_kept_answers_of_other_faces_do_not_count(self):
+        # What bob keeps of the bank is no answer of the post.
+        shop = read_face(
+            "face shop 1\nrecord give\n 1 left whole must\nrecord want\n 1 who text must\n 2 sum whole must\n"
+            "call 1 b want give\n ask bank a\n get left left\n ask post a"
+        )
+        post = "face post {}\nrecord give\n 1 who text must\nrecord want\n 1 who text must\ncall 1 a want give\n copy who who"
+        speaks = (("bank", 1), ("post", 1), ("shop", 1))
+        ends = (("ada", None, (("shop", 1),)), ("bob", "shop", speaks), ("cyd", "bank", (("bank", 1),)), ("dan", "post", (("post", 1),)))
+        made = House((shop, read_face(post.format(1)), read_face(post.format(2)), bank(1)), ends)
+        made.ask("ada", "shop", 1, VALUE)
+        made.carry(1)
+        made.work("bob")
+        made.carry(2)
+        made.work("cyd")
+        made.carry(3)
+        self.assertEqual(made.work("bob"), "asked")
+        made.roll("bob", "post", 2)
+        made.settle()
+        self.assertEqual(made.told("ada1"), ("done", {"left": 1}))
+
+    def test_keys_below_that_another_end_asked(self):
+        # ada1.bank1 is live for bob, who asked it; eve speaks the bank, too, and has no row of ada1 either.
+        faces = (asking(1, more=(MUST,)), bank(1, ask=(MUST,)), bank(2, **NOTED))
+        ends = (("ada", None, (("shop", 1),)), ("bob", "shop", (("bank", 1), ("shop", 1))), ("cyd", "bank", (("bank", 1),)), ("eve", None, (("bank", 1),)))
+        made = House(faces, ends)
+        made.ask("ada", "shop", 1, {**VALUE, "note": "n"})
+        made.carry(1)
+        made.work("bob")
+        made.carry(2)
+        made.work("cyd")
+        made.lose(3)
+        made.roll("cyd", "bank", 2)
+        self.refused(made, ("key", "ada1.bank1"), "bob", "bank", 2)
+        made.roll("eve", "bank", 2)
+        made.fall("bob")
+        self.refused(made, ("key", "ada1.bank1"), "bob", "bank", 2)
+
     def test_the_least_key_of_several(self):
         made = self.kept(room=20)
         made.ask("ada", "shop", 1, {**VALUE, "note": "n"})

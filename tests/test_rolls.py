@@ -120,6 +120,23 @@ class RollsTest(unittest.TestCase):
         told = self.planned((other, *BOOK), "ada", pairs(ada=1, bob=1), pairs(ada=1, bob=1), face="post")
         self.assertEqual(told, ("plan", ()))
 
+    def test_other_faces_are_no_way_round(self):
+        # A post that has both calls would lead from bank 1 to bank 2, were it a bank.
+        post = read_face("face post 3\nrecord give\nrecord want\ncall 1 a want give\ncall 2 b want give")
+        told = self.planned((post, bank(1, calls=(1,)), bank(2, calls=(2,))), "bob", pairs(ada=1, bob=1), pairs(ada=2, bob=2))
+        self.assertEqual(told, ("none", ((1, 1),)))
+        paper = ("plan", (("bob", 3), ("ada", 2), ("bob", 2)))
+        case = ((post, bank(1, calls=(1,)), bank(2, calls=(2,))), "bank", "bob", pairs(ada=1, bob=1), pairs(ada=2, bob=2))
+        self.assertIs(self.look(*case, paper), False)
+
+    def test_all_states_where_the_goals_are_among_them(self):
+        case = (BOOK, "bank", "bob", pairs(ada=1, bob=1), pairs(ada=3, bob=3))
+        states = tuple(sorted(self.all_states(*case[:4])))
+        self.assertIn((3, 3), states)
+        self.assertIs(self.look(*case, ("none", states)), False)
+        others = tuple(state for state in states if state != (3, 3))
+        self.assertIs(self.look(*case, ("none", others)), False)
+
     def test_only_talking_is_looked_at(self):
         # An edition that asks faces that nobody serves is rolled to, for the plan.
         asks = read_face("face bank 4\nrecord give\nrecord want\ncall 1 a want give\n ask zed go")
