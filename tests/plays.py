@@ -4,7 +4,7 @@ from facehouse.facetexts import read_face, show_face
 from facehouse.house import House
 from facehouse.rights import wrong
 from tests.reference import some_value
-from tests.second import Model, among, calls, do_talk, rings
+from tests.second import Model, Refusal, among, calls, do_talk, rings
 
 BANK = """\
 face bank 1
@@ -289,6 +289,17 @@ def dice_deed(dice, model):
     if word == "rise" and model.down:
         return word, dice.choice(sorted(model.down))
     return (word,) if word in ("tick", "settle") else (word, end)
+
+
+def play(dice, made, model, many):
+    """Play deeds by the throws of dice on a house and its model; what is refused is passed over."""
+    for _ in range(many):
+        deed = dice_deed(dice, model)
+        made.run([deed], stop=False)
+        try:
+            model.do(deed)
+        except Refusal:
+            pass
 
 
 def plain(letter):

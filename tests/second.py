@@ -389,6 +389,14 @@ class Model:
             raise Refusal("NoRoll", why)
         self.editions[end][name] = edition
 
+    def fall_silent(self):
+        """Lose all letters, and let all ends that are up fall and rise: as a house is that was written and read."""
+        self.mails.clear()
+        for end in self.names:
+            if end not in self.down:
+                self.do_fall(end)
+                self.do_rise(end)
+
     # Why an end isn't rolled.
 
     def why_not(self, end, name, edition):

@@ -9,10 +9,10 @@ from facehouse.house import House
 from facehouse.housetexts import read_house, show_house
 from facehouse.traces import explains, trace
 from tests.otherwise import some_thing
-from tests.plays import BANK, POST, SHOP, dice_deed, dice_house, house, state_of
+from tests.plays import BANK, POST, SHOP, dice_house, house, play, state_of
 from tests.reference import dice_of
 from tests.samples import any_things
-from tests.second import Refusal, repr_of
+from tests.second import repr_of
 from tests.second_lookers import is_text_of_house, shown
 
 # A text in which all stands that may: see play_written.
@@ -125,10 +125,10 @@ def play_written():
     made.ask("ada", "bank", 1, {"who": "row 1", "sum": 3, "memo": "m"})
     made.ask("ada", "bank", 1, {"who": "late", "sum": 3})
     made.ask("eve", "post", 1, {"who": "late", "sum": 3})
-    first, second, third = [letter.number for letter in made.net()]
-    made.carry(first)
+    numbers = [letter.number for letter in made.net()]
+    made.carry(numbers[0])
     made.work("bob")
-    made.carry(second)
+    made.carry(numbers[1])
     made.fall("cyd")
     made.fall("eve")
     return made
@@ -580,34 +580,17 @@ class RefusedTest(WrittenTest):
 
 
 class PlayTest(WrittenTest):
-    def play(self, dice, made, model, many):
-        for _ in range(many):
-            deed = dice_deed(dice, model)
-            made.run([deed], stop=False)
-            try:
-                model.do(deed)
-            except Refusal:
-                pass
-
-    def quiet(self, model):
-        """Lose all letters of a model, and let its ends that are up fall and rise."""
-        model.mails.clear()
-        for end in model.names:
-            if end not in model.down:
-                model.do_fall(end)
-                model.do_rise(end)
-
     def test_written_and_read_between_deeds(self):
         dice = dice_of(32)
         rolls = collections.Counter()
         for _ in range(40):
             _, _, made, model = dice_house(dice)
             for _ in range(3):
-                self.play(dice, made, model, 80)
+                play(dice, made, model, 80)
                 text = self.writes(made)
                 self.assertEqual(text, shown(model))
                 made = read_house(text)
-                self.quiet(model)
+                model.fall_silent()
                 self.assertEqual(repr_of(state_of(made, model)), repr_of(model.state()))
                 for end in model.names:
                     for name in model.editions[end]:
@@ -632,7 +615,7 @@ class PlayTest(WrittenTest):
         counts = collections.Counter()
         for _ in range(40):
             _, _, made, model = dice_house(dice)
-            self.play(dice, made, model, 120)
+            play(dice, made, model, 120)
             text = self.writes(made)
             others = [one for one in text.split("\n\n") if one.startswith(("end", "row"))]
             for _ in range(40):

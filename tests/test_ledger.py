@@ -7,7 +7,7 @@ import unittest
 from facehouse.facetexts import read_face, show_face
 from facehouse.ledger import fits
 from tests.otherwise import otherwise, some_thing
-from tests.plays import ENDS, book, dice_deed, dice_house, house
+from tests.plays import ENDS, book, dice_house, house, play
 from tests.reference import dice_of
 from tests.samples import any_things
 from tests.second import repr_of
@@ -279,10 +279,7 @@ class LedgerTest(unittest.TestCase):
         counts = collections.Counter()
         for turn in range(40):
             faces, ends, made, model = dice_house(dice)
-            for _ in range(150):
-                deed = dice_deed(dice, model)
-                if made.run([deed], stop=False) not in (["NoName"], ["NoValue"], ["NoCall"], ["NoLetter"], ["NoWork"], ["NoRoll"], ["Down"], ["Up"]):
-                    model.do(deed)
+            play(dice, made, model, 150)
             serves = {end: served for end, served, _ in ends}
             rows, stores = made.ledger(), stores_of(made, serves)
             self.assertIs(self.look(faces, serves, rows, stores), True)

@@ -8,10 +8,10 @@ from facehouse.facetexts import read_face, show_face
 from facehouse.house import House
 from facehouse.traces import explains, trace
 from tests.otherwise import otherwise, some_thing
-from tests.plays import book, dice_deed, dice_house, house
+from tests.plays import book, dice_house, house, play
 from tests.reference import dice_of
 from tests.samples import any_things
-from tests.second import Refusal, repr_of
+from tests.second import repr_of
 from tests.second_lookers import explains_so, trace_of
 
 BOOK = book()
@@ -315,13 +315,7 @@ class PlayTest(TraceTest):
         counts = collections.Counter()
         for turn in range(60):
             faces, _, made, model = dice_house(dice)
-            for _ in range(150):
-                deed = dice_deed(dice, model)
-                try:
-                    model.do(deed)
-                except Refusal:
-                    pass
-                made.run([deed], stop=False)
+            play(dice, made, model, 150)
             for row in made.ledger():
                 told = trace(made, row[3])
                 self.assertEqual(repr_of(told), repr_of(trace_of(model, row[3])))

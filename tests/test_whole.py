@@ -108,7 +108,7 @@ class WholeTest(unittest.TestCase):
                     self.was_done(book, made, model, key, told)
                 if dice.random() < 0.5:
                     made = read_house(show_house(made))
-                    self.reset(model)
+                    model.fall_silent()
                     final.update({key: ("lost",) for key, told in now.items() if told == ("open",)})
             self.lookers_let_by(book, serves, made)
             self.come_to_their_end(made, model, serves)
@@ -129,13 +129,6 @@ class WholeTest(unittest.TestCase):
                 self.assertTrue(done, deed)
             except Refusal:
                 self.assertFalse(done, deed)
-
-    def reset(self, model):
-        model.mails.clear()
-        for end in model.names:
-            if end not in model.down:
-                model.do_fall(end)
-                model.do_rise(end)
 
     def was_done(self, book, made, model, key, told):
         """That what is told done was done, by the edition by which it was read."""
